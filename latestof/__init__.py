@@ -1,0 +1,1 @@
+"""Times that must not come later than the latest of several others."""

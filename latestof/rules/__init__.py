@@ -1,0 +1,1 @@
+"""Rule sets and times."""

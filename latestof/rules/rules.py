@@ -1,0 +1,142 @@
+"""Rules and rule sets: what is one, and how they are made from others."""
+
+from latestof.checks import ascends, is_index, is_integer, is_tuple_of, is_within
+from latestof.errors import InvalidNumber, InvalidRules, TooLarge
+
+MAX_VARIABLES = 8
+MAX_RULES = 24
+MAX_DELAY = 60
+
+
+def is_size(value):
+    """Return whether the value is the size of a rule set."""
+    return is_within(value, 1, MAX_VARIABLES)
+
+
+def is_delay(value):
+    """Return whether the value is a delay."""
+    return is_within(value, -MAX_DELAY, MAX_DELAY - 1)
+
+
+def check_size(size):
+    """Raise InvalidNumber if the value is not a size."""
+    if not is_size(size):
+        raise InvalidNumber(size)
+
+
+def check_rules(rules):
+    """Raise InvalidRules if the value is not a rule set."""
+    if not is_rule_set(rules):
+        raise InvalidRules("this is not a rule set")
+
+
+def is_rule(size, value):
+    """Return whether the value is a rule of the size."""
+    check_size(size)
+    return _is_unordered_rule(size, value) and ascends([term[0] for term in value[1]])
+
+
+def is_rule_set(value):
+    """Return whether the value is a rule set."""
+    if not is_tuple_of(value, 2):
+        return False
+    size, rules = value
+    if not is_size(size) or not isinstance(rules, tuple) or len(rules) > MAX_RULES:
+        return False
+    return all([is_rule(size, rule) for rule in rules])
+
+
+def _is_term(size, value):
+    return is_tuple_of(value, 2) and is_index(value[0], size) and is_delay(value[1])
+
+
+def _is_unordered_rule(size, value):
+    """Return whether the value is a pair of a variable and terms in any order, perhaps with repeats."""
+    if not is_tuple_of(value, 2) or not is_index(value[0], size) or not isinstance(value[1], tuple):
+        return False
+    return all([_is_term(size, term) for term in value[1]])
+
+
+def make_rules(size, *rules):
+    """Return the rule set with these rules, whose terms may stand in any order."""
+    return rules_from(size, rules)
+
+
+def rules_from(size, rules):
+    """Return the rule set with the rules of a tuple, whose terms may stand in any order."""
+    check_size(size)
+    if not isinstance(rules, tuple) or not all([_is_unordered_rule(size, rule) for rule in rules]):
+        raise InvalidRules("these are not pairs of a variable and terms")
+    _check_number_of(rules)
+    return size, tuple([(left, _in_order(terms)) for left, terms in rules])
+
+
+def _check_number_of(rules):
+    if len(rules) > MAX_RULES:
+        raise TooLarge(MAX_RULES)
+
+
+def _in_order(terms):
+    """Return the terms ascending, of several with the same variable the one with the greatest delay."""
+    greatest = {}
+    for variable, delay in terms:
+        greatest[variable] = max(delay, greatest.get(variable, delay))
+    return tuple([(variable, greatest[variable]) for variable in sorted(greatest)])
+
+
+def merged(first, *others):
+    """Return the rule set with the rules of all arguments, in order."""
+    return merged_all((first, *others))
+
+
+def merged_all(parts):
+    """Return the rule set with the rules of all rule sets of a tuple, in order."""
+    if not isinstance(parts, tuple) or not parts or not all([is_rule_set(part) for part in parts]):
+        raise InvalidRules("these are not one or more rule sets")
+    size = parts[0][0]
+    if not all([part[0] == size for part in parts]):
+        raise InvalidRules("these rule sets have different sizes")
+    rules = tuple([rule for part in parts for rule in part[1]])
+    _check_number_of(rules)
+    return size, rules
+
+
+def negation(size, rule):
+    """Return the rule set whose solutions are the times for which the rule does not hold."""
+    if not is_rule(size, rule):
+        raise InvalidRules("this is not a rule of the size")
+    left, terms = rule
+    return size, tuple([(variable, ((left, -delay - 1),)) for variable, delay in terms])
+
+
+def simplified(rules):
+    """Return the rule set without rules that always hold, and without own terms that never help."""
+    check_rules(rules)
+    size, listed = rules
+    return size, tuple([_without_own_terms(rule) for rule in listed if not _always_holds(rule)])
+
+
+def _always_holds(rule):
+    left, terms = rule
+    return any([variable == left and delay >= 0 for variable, delay in terms])
+
+
+def _without_own_terms(rule):
+    left, terms = rule
+    return left, tuple([term for term in terms if term[0] != left])
+
+
+def with_delay(rules, amount):
+    """Return the rule set in which the amount is added to all delays."""
+    check_rules(rules)
+    if not is_integer(amount):
+        raise InvalidNumber(amount)
+    size, listed = rules
+    later = tuple([(left, _delayed(terms, amount)) for left, terms in listed])
+    if not all([is_delay(delay) for _, terms in later for _, delay in terms]):
+        raise TooLarge(MAX_DELAY)
+    return size, later
+
+
+def _delayed(terms, amount):
+    return tuple([(variable, delay + amount) for variable, delay in terms])

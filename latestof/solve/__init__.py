@@ -1,0 +1,1 @@
+"""Solutions and refutations of rule sets."""

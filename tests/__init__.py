@@ -1,0 +1,1 @@
+"""Tests of latestof. They stand beside the package and use the whole of Python."""

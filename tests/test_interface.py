@@ -1,0 +1,61 @@
+"""Tests that the names and the arguments of the document's interface exist where it lists them."""
+
+import inspect
+import unittest
+from importlib import import_module
+
+from tests.support import R
+
+FUNCTIONS = {
+    "latestof.rules.rules": (
+        "is_rule(size, value)", "is_rule_set(value)", "make_rules(size, *rules)", "rules_from(size, rules)",
+        "merged(first, *others)", "merged_all(parts)", "negation(size, rule)", "simplified(rules)",
+        "with_delay(rules, amount)",
+    ),
+    "latestof.rules.times": (
+        "is_times(size, value)", "is_solution(rules, value)", "right_side(rules, index, times)",
+        "broken_rules(rules, times)", "shifted(times, by)", "greatest_of(first, *others)", "greatest_of_all(rows)",
+        "solutions_between(rules, low, high)",
+    ),
+    "latestof.solve.solver": (
+        "solve(rules)", "is_refutation(rules, value)", "is_verdict(rules, value)", "split(rules)",
+        "is_split(rules, value)", "excluded(rules)",
+    ),
+}
+CLASSES = {
+    "latestof.errors": (
+        "TimingError", "InvalidRules", "InvalidTimes", "InvalidBounds", "InvalidExpression", "InvalidClause",
+        "InvalidPlan", "ParseError", "UnknownVariable", "UnknownEvent", "InvalidNumber", "TooLarge", "Refuted",
+        "NothingToUndo",
+    ),
+}
+GENERATORS = {"solutions_between"}
+
+
+class Interface(unittest.TestCase):
+    def test_functions_are_defined_in_their_files(self):
+        for place, listed in FUNCTIONS.items():
+            module = import_module(place)
+            for text in listed:
+                with self.subTest(text, place=place):
+                    name, arguments = text.split("(")
+                    function = getattr(module, name)
+                    self.assertTrue(inspect.isfunction(function))
+                    self.assertEqual(function.__module__, place)
+                    self.assertEqual(str(inspect.signature(function)), "(" + arguments)
+                    self.assertEqual(inspect.isgeneratorfunction(function), name in GENERATORS)
+
+    def test_classes_are_defined_in_their_files(self):
+        for place, listed in CLASSES.items():
+            for name in listed:
+                with self.subTest(name, place=place):
+                    self.assertEqual(getattr(import_module(place), name).__module__, place)
+
+    def test_arguments_may_be_passed_by_name(self):
+        times = import_module("latestof.rules.times")
+        self.assertEqual(times.right_side(rules=R, index=0, times=(3, 0, 0)), 2)
+        self.assertEqual(times.shifted(times=(1,), by=2), (3,))
+
+
+if __name__ == "__main__":
+    unittest.main()
