@@ -21,6 +21,16 @@ def is_tuple_of(value, length):
     return isinstance(value, tuple) and len(value) == length
 
 
+def is_titled(value, word, length):
+    """Return whether the value is a tuple of this length that begins with the word."""
+    return is_tuple_of(value, length) and isinstance(value[0], str) and value[0] == word
+
+
 def ascends(numbers):
-    """Return whether the integers of a list are strictly ascending."""
+    """Return whether the integers are strictly ascending."""
     return all([numbers[k] < numbers[k + 1] for k in range(len(numbers) - 1)])
+
+
+def are_ascending_indices(value, length):
+    """Return whether the value is an ascending tuple of indices of a sequence of this length."""
+    return isinstance(value, tuple) and all([is_index(entry, length) for entry in value]) and ascends(value)

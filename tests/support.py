@@ -50,6 +50,34 @@ BAD_TIMES = JUNK + (
 )
 
 
+# Each of these differs from a rule of size 3 in one part.
+BAD_RULES = JUNK + ((3, ()), (-1, ()), (False, ()), (HUGE, ()), [0, ()], (0,), (0, (), ()), ((0, ()),)) + tuple(
+    wrong[1][0] for wrong in BAD_RULE_SETS
+    if isinstance(wrong, tuple) and len(wrong) == 2 and wrong[0] == 3 and isinstance(wrong[1], tuple)
+    and len(wrong[1]) == 1)
+
+# Each of these differs from a variable of size 3.
+BAD_VARIABLES = NO_INTEGERS + (3, -1, HUGE, -HUGE)
+
+
+def variants(value):
+    """Return values that differ from a nested tuple in one part, each part in several ways."""
+    if isinstance(value, tuple):
+        found = [list(value), value + (None,), value + (0,), (value,), dict(enumerate(value))]
+        for k, part in enumerate(value):
+            found += [value[:k] + value[k + 1:], value[:k + 1] + value[k:]]
+            found += [value[:j] + (part,) + value[j + 1:k] + (value[j],) + value[k + 1:] for j in range(k)]
+            found += [value[:k] + (other,) + value[k + 1:] for other in variants(part)]
+        return found
+    if isinstance(value, int):
+        found = [value + 1, value - 1, value + 2, value - HUGE, value + HUGE, str(value), None, (value,), [value]]
+        return found + [bool(value)] * (value in (0, 1))
+    if isinstance(value, str):
+        return [value + "s", value.title(), value.encode(), None, (value,), [value], True, "times", "open", "gap",
+                "refuted", "follows", "breaks", "middle", "pace", "free", "never"]
+    return [(), 0, False, True, "", "None", (None,), [None], ((0, 0, 0),), -1]
+
+
 class Draw:
     """Draws numbers that are the same in every run."""
 
@@ -115,11 +143,12 @@ def plainly_possible(rules):
     return possible
 
 
-def lowered(rules):
-    """Return the times of at most 0 that are left when times are lowered one by one, None below the least sum."""
+def lowered(rules, bounds=None):
+    """Return the times within the bounds that are left when times are lowered one by one, None below the least sum."""
     size, listed = rules
+    times = [0] * size if bounds is None else list(bounds)
     floor = sum(min([0] + [c for left, terms in listed for _, c in terms if left == k]) for k in range(size))
-    times = [0] * size
+    floor += min(times)
     changed = True
     while changed:
         changed = False
@@ -149,23 +178,27 @@ def plainly_refutes(rules, value):
     return True
 
 
-def refuted_variables(rules):
-    """Return the variables of all refutations: tries every choice of variables and of a rule for each of them."""
+def all_refutations(rules):
+    """Yield a refutation for each choice of variables and of a rule for each of them that makes one."""
     size, listed = rules
-    found = set()
     options = [[None] + [k for k in range(len(listed)) if listed[k][0] == variable] for variable in range(size)]
     for choice in product(*options):
         chosen = {variable: index for variable, index in enumerate(choice) if index is not None}
-        if has_numbers(listed, chosen):
-            found.update(chosen)
-    return found
+        numbers = numbers_for(listed, chosen)
+        if numbers is not None:
+            yield tuple((variable, chosen[variable], numbers[variable]) for variable in sorted(chosen))
 
 
-def has_numbers(listed, chosen):
-    """Return whether the chosen rules, a dict from variables to indices, make a refutation with some numbers."""
+def refuted_variables(rules):
+    """Return the variables of all refutations."""
+    return {triple[0] for refutation in all_refutations(rules) for triple in refutation}
+
+
+def numbers_for(listed, chosen):
+    """Return numbers with which the chosen rules, a dict from variables to indices, make a refutation, or None."""
     terms = [(variable, j, c) for variable, index in chosen.items() for j, c in listed[index][1]]
     if not chosen or not all(j in chosen for _, j, _ in terms):
-        return False
+        return None
     numbers = dict.fromkeys(chosen, 0)
     for _ in range(len(chosen) + 1):
         raised = False
@@ -173,4 +206,17 @@ def has_numbers(listed, chosen):
             if numbers[variable] < numbers[j] + len(chosen) * c + 1:
                 numbers[variable] = numbers[j] + len(chosen) * c + 1
                 raised = True
-    return not raised
+    return None if raised else numbers
+
+
+def moved(numbering, by):
+    """Return the triples with the same integer added to all numbers."""
+    return tuple((variable, index, number + by) for variable, index, number in numbering)
+
+
+def shown(value):
+    """Return a short text for messages; some values are too great or too long to be shown whole."""
+    try:
+        return repr(value)[:60]
+    except ValueError:
+        return "a great integer"

@@ -21,6 +21,22 @@ FUNCTIONS = {
         "solve(rules)", "is_refutation(rules, value)", "is_verdict(rules, value)", "split(rules)",
         "is_split(rules, value)", "excluded(rules)",
     ),
+    "latestof.solve.cores": (
+        "core_certificate(rules)", "is_core_certificate(rules, value)", "all_cores(rules)",
+    ),
+    "latestof.follow.follows": (
+        "follow_certificate(rules, rule)", "follows(rules, rule)", "is_follow_certificate(rules, rule, value)",
+        "difference(first, second)", "reduced(rules)", "reduction_certificate(rules)",
+        "is_reduction_certificate(rules, value)",
+    ),
+    "latestof.latest.latest": (
+        "latest(rules, bounds)", "latest_times(rules, bounds)", "is_latest(rules, bounds, value)",
+        "bound_chain(rules, bounds, variable)",
+    ),
+    "latestof.latest.gaps": (
+        "gap_certificate(rules, variable, other)", "is_gap_certificate(rules, variable, other, value)",
+        "greatest_gap(rules, variable, other)",
+    ),
 }
 CLASSES = {
     "latestof.errors": (
@@ -29,7 +45,7 @@ CLASSES = {
         "NothingToUndo",
     ),
 }
-GENERATORS = {"solutions_between"}
+GENERATORS = {"solutions_between", "all_cores", "bound_chain"}
 
 
 class Interface(unittest.TestCase):

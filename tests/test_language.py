@@ -17,11 +17,12 @@ METHODS = set(
     "items join keys ljust lower lstrip partition pop remove replace reverse rfind rjust rpartition rsplit rstrip "
     "setdefault split splitlines startswith strip update upper values zfill bit_length isascii isdecimal encode decode "
     "hex fromhex to_bytes from_bytes sort add discard __init__".split())
-BARRED = set(
-    "typing typing_extensions enum Enum IntEnum StrEnum Flag IntFlag Generic Protocol ABC ABCMeta namedtuple NamedTuple "
-    "TypedDict TYPE_CHECKING abstractmethod register mro elements open input law version_info with_traceback add_note "
-    "eval exec compile globals locals vars help id os gc getattr setattr delattr hasattr float complex chr pow "
-    "print hash".split())
+BARRED_IN_STRINGS = set(
+    "type typing typing_extensions enum Enum IntEnum StrEnum Flag IntFlag Generic Protocol ABC ABCMeta namedtuple "
+    "NamedTuple TypedDict TYPE_CHECKING abstractmethod".split())
+BARRED = (BARRED_IN_STRINGS - {"type"}) | set(
+    "register mro elements open input law version_info with_traceback add_note eval exec compile globals locals vars "
+    "help id os gc getattr setattr delattr hasattr float complex chr pow print hash".split())
 # Some of these are allowed in a few places. Doing without them is simpler than telling which places.
 BARRED_NODES = (
     ast.AsyncFunctionDef, ast.AsyncFor, ast.AsyncWith, ast.Await, ast.Import, ast.Global, ast.Div, ast.MatMult, ast.Pow,
@@ -124,6 +125,52 @@ class Imports(unittest.TestCase):
                     self.assertIn(alias.name, used, path)
 
 
+class Generators(unittest.TestCase):
+    CONSUMERS = set("list tuple dict sorted sum min max any all enumerate zip".split())
+
+    def generators(self):
+        return {node.name for _, tree in trees() for node in ast.walk(tree) if isinstance(node, ast.FunctionDef)
+                and any(isinstance(part, (ast.Yield, ast.YieldFrom)) for part in ast.walk(node))}
+
+    def test_names(self):
+        named = [node.name for _, tree in trees() for node in ast.walk(tree) if isinstance(node, ast.FunctionDef)]
+        for name in self.generators():
+            self.assertEqual(named.count(name), 1, name)
+            self.assertNotIn(name, METHODS)
+
+    def test_calls_are_iterated_at_once(self):
+        generators = self.generators()
+        for path, tree in trees():
+            fitting = set()
+            for node in ast.walk(tree):
+                if isinstance(node, (ast.For, ast.comprehension)):
+                    fitting.add(node.iter)
+                elif isinstance(node, ast.YieldFrom):
+                    fitting.add(node.value)
+                elif isinstance(node, ast.Call) and isinstance(node.func, ast.Name) and node.func.id in self.CONSUMERS:
+                    fitting.update(node.args[:1])
+            calls = [node for node in ast.walk(tree) if isinstance(node, ast.Call)]
+            called = [node.func for node in calls]
+            for node in ast.walk(tree):
+                if isinstance(node, ast.Name) and node.id in generators:
+                    self.assertIn(node, called, (path, node.lineno))
+            for node in calls:
+                if isinstance(node.func, ast.Name) and node.func.id in generators:
+                    self.assertIn(node, fitting, (path, node.lineno))
+                    for part in node.args:
+                        self.assertIsInstance(part, (ast.Name, ast.Attribute, ast.Constant), (path, node.lineno))
+
+    def test_yields_are_statements_outside_of_try_and_with(self):
+        for path, tree in trees():
+            statements = {node.value for node in ast.walk(tree) if isinstance(node, ast.Expr)}
+            for node in ast.walk(tree):
+                if isinstance(node, (ast.Yield, ast.YieldFrom)):
+                    self.assertIn(node, statements, (path, node.lineno))
+                elif isinstance(node, (ast.Try, ast.With)):
+                    inside = list(ast.walk(node))
+                    self.assertFalse(any(isinstance(part, (ast.Yield, ast.YieldFrom)) for part in inside))
+
+
 class Words(unittest.TestCase):
     def test_no_statement_or_expression_outside_the_subset(self):
         for path, tree in trees():
@@ -169,7 +216,7 @@ class Words(unittest.TestCase):
             for node in ast.walk(tree):
                 if isinstance(node, ast.Constant) and isinstance(node.value, str) and node not in docstrings:
                     self.assertNotIn("%", node.value, (path, node.lineno))
-                    self.assertFalse(set(re.findall(r"\w+", node.value)) & BARRED, (path, node.lineno))
+                    self.assertFalse(set(re.findall(r"\w+", node.value)) & BARRED_IN_STRINGS, (path, node.lineno))
 
 
 if __name__ == "__main__":

@@ -1,7 +1,8 @@
 """Rules and rule sets: what is one, and how they are made from others."""
 
 from latestof.checks import ascends, is_index, is_integer, is_tuple_of, is_within
-from latestof.errors import InvalidNumber, InvalidRules, TooLarge
+from latestof.errors import InvalidNumber, InvalidRules, TooLarge, UnknownVariable
+from latestof.rules.loose import delayed, in_order, negated, simplified_rule
 
 MAX_VARIABLES = 8
 MAX_RULES = 24
@@ -28,6 +29,38 @@ def check_rules(rules):
     """Raise InvalidRules if the value is not a rule set."""
     if not is_rule_set(rules):
         raise InvalidRules("this is not a rule set")
+
+
+def check_rule(size, rule):
+    """Raise InvalidRules if the value is not a rule of the size."""
+    if not is_rule(size, rule):
+        raise InvalidRules("this is not a rule of the size")
+
+
+def check_both(first, second):
+    """Raise InvalidRules if one of the values is not a rule set, or if they have different sizes."""
+    check_rules(first)
+    check_rules(second)
+    if first[0] != second[0]:
+        raise InvalidRules("these rule sets have different sizes")
+
+
+def check_variable(size, variable):
+    """Raise UnknownVariable if the value is not a variable of a rule set of the size."""
+    if not is_index(variable, size):
+        raise UnknownVariable(variable)
+
+
+def check_number_of(rules):
+    """Raise TooLarge if there are more rules than a rule set may have."""
+    if len(rules) > MAX_RULES:
+        raise TooLarge(MAX_RULES)
+
+
+def check_delays(rules):
+    """Raise TooLarge if a rule has a delay that a rule set may not have."""
+    if not all([is_delay(delay) for _, terms in rules for _, delay in terms]):
+        raise TooLarge(MAX_DELAY)
 
 
 def is_rule(size, value):
@@ -67,21 +100,8 @@ def rules_from(size, rules):
     check_size(size)
     if not isinstance(rules, tuple) or not all([_is_unordered_rule(size, rule) for rule in rules]):
         raise InvalidRules("these are not pairs of a variable and terms")
-    _check_number_of(rules)
-    return size, tuple([(left, _in_order(terms)) for left, terms in rules])
-
-
-def _check_number_of(rules):
-    if len(rules) > MAX_RULES:
-        raise TooLarge(MAX_RULES)
-
-
-def _in_order(terms):
-    """Return the terms ascending, of several with the same variable the one with the greatest delay."""
-    greatest = {}
-    for variable, delay in terms:
-        greatest[variable] = max(delay, greatest.get(variable, delay))
-    return tuple([(variable, greatest[variable]) for variable in sorted(greatest)])
+    check_number_of(rules)
+    return size, tuple([(left, in_order(terms)) for left, terms in rules])
 
 
 def merged(first, *others):
@@ -97,33 +117,22 @@ def merged_all(parts):
     if not all([part[0] == size for part in parts]):
         raise InvalidRules("these rule sets have different sizes")
     rules = tuple([rule for part in parts for rule in part[1]])
-    _check_number_of(rules)
+    check_number_of(rules)
     return size, rules
 
 
 def negation(size, rule):
     """Return the rule set whose solutions are the times for which the rule does not hold."""
-    if not is_rule(size, rule):
-        raise InvalidRules("this is not a rule of the size")
-    left, terms = rule
-    return size, tuple([(variable, ((left, -delay - 1),)) for variable, delay in terms])
+    check_rule(size, rule)
+    return size, negated(rule)
 
 
 def simplified(rules):
     """Return the rule set without rules that always hold, and without own terms that never help."""
     check_rules(rules)
     size, listed = rules
-    return size, tuple([_without_own_terms(rule) for rule in listed if not _always_holds(rule)])
-
-
-def _always_holds(rule):
-    left, terms = rule
-    return any([variable == left and delay >= 0 for variable, delay in terms])
-
-
-def _without_own_terms(rule):
-    left, terms = rule
-    return left, tuple([term for term in terms if term[0] != left])
+    simpler = [simplified_rule(rule) for rule in listed]
+    return size, tuple([rule for rule in simpler if rule is not None])
 
 
 def with_delay(rules, amount):
@@ -131,12 +140,6 @@ def with_delay(rules, amount):
     check_rules(rules)
     if not is_integer(amount):
         raise InvalidNumber(amount)
-    size, listed = rules
-    later = tuple([(left, _delayed(terms, amount)) for left, terms in listed])
-    if not all([is_delay(delay) for _, terms in later for _, delay in terms]):
-        raise TooLarge(MAX_DELAY)
-    return size, later
-
-
-def _delayed(terms, amount):
-    return tuple([(variable, delay + amount) for variable, delay in terms])
+    later = delayed(rules, 1, amount)
+    check_delays(later[1])
+    return later

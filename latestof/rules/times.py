@@ -2,6 +2,7 @@
 
 from latestof.checks import is_index, is_integer, is_tuple_of, is_within
 from latestof.errors import InvalidNumber, InvalidTimes, TooLarge
+from latestof.rules.holding import fulfils, greatest_sum, holds
 from latestof.rules.rules import check_rules, check_size, is_size
 
 MAX_BOUND = 200
@@ -28,32 +29,6 @@ def check_times(size, times):
 
 def _is_times_of_any_size(value):
     return isinstance(value, tuple) and is_size(len(value)) and is_times(len(value), value)
-
-
-def greatest_sum(terms, times):
-    """Return the greatest sum of time and delay over the terms whose variable has a time, or None."""
-    sums = [times[variable] + delay for variable, delay in terms if times[variable] is not None]
-    return max(sums, default=None)
-
-
-def holds(rule, times):
-    """Return whether the rule holds for times, in which entries may be None.
-
-    A rule whose left has no time holds, and a term whose variable has none does not help.
-    """
-    left, terms = rule
-    if times[left] is None:
-        return True
-    right = greatest_sum(terms, times)
-    return right is not None and times[left] <= right
-
-
-def fulfils(rules, times):
-    """Return whether all rules of a rule set, loose or not, hold for times, in which entries may be None."""
-    for rule in rules[1]:
-        if not holds(rule, times):
-            return False
-    return True
 
 
 def right_side(rules, index, times):

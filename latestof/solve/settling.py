@@ -1,29 +1,29 @@
-"""Finds the latest times of at most 0, and the rules that leave some variables without any time.
+"""Finds the latest times within bounds, and the rules that leave some variables without any time.
 
-Each variable has a choice: None, which lets it stay at 0, or the index of a rule that it must obey. A choice is
-replaced only by a rule whose right side is less than the present time of the variable. So the delays on every
+Each variable has a choice: None, which lets it stay at its bound, or the index of a rule that it must obey. A choice
+is replaced only by a rule whose right side is less than the present time of the variable. So the delays on every
 circular way of the chosen rules have a negative sum: along the way each time is at least the next one plus the
 delay, and it is greater where a choice was replaced last. Therefore the times under the choices are well defined,
 none of them ever rises, and no choices come twice.
 
-Delays may be any integers: the number of steps depends on the rules, not on how great the delays are.
+Delays and bounds may be any integers: the number of steps depends on the rules, not on how great the numbers are.
 """
 
-from latestof.rules.times import greatest_sum
+from latestof.rules.holding import greatest_sum
 
 
-def settled(rules):
+def settled(rules, bounds):
     """Return (times, choices) for which no variable has a rule with a smaller right side than its time.
 
-    The times have None for each variable whose chosen rule leads to no variable that stays at 0.
+    The times have None for each variable whose chosen rule leads to no variable that stays at its bound.
     """
-    size, listed = rules
-    choices = [None] * size
-    times = [0] * size
+    listed = rules[1]
+    choices = [None] * len(bounds)
+    times = list(bounds)
     better = _tightened(listed, times, choices)
     while better != choices:
         choices = better
-        times = _times_under(listed, choices)
+        times = _times_under(listed, bounds, choices)
         better = _tightened(listed, times, choices)
     return tuple(times), choices
 
@@ -40,12 +40,13 @@ def _tightened(listed, times, choices):
     return better
 
 
-def _times_under(listed, choices):
-    """Return, for each variable, the greatest sum of delays on a way by chosen rules to one that stays at 0.
+def _times_under(listed, bounds, choices):
+    """Return, for each variable, the greatest time to which a way by chosen rules to a bound lets it rise.
 
-    There is None where no way leads to such a variable. No circular way raises a time again, so the loop ends.
+    There is None where no way leads to a variable that stays at its bound. No circular way raises a time again, so
+    the loop ends.
     """
-    times = [0 if index is None else None for index in choices]
+    times = [bound if index is None else None for bound, index in zip(bounds, choices)]
     chosen = [(variable, listed[index][1]) for variable, index in enumerate(choices) if index is not None]
     rising = True
     while rising:

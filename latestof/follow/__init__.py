@@ -1,0 +1,1 @@
+"""What follows from rules, and which rules can be left out."""

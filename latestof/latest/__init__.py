@@ -1,0 +1,1 @@
+"""Latest times and greatest differences."""
