@@ -34,3 +34,8 @@ def ascends(numbers):
 def are_ascending_indices(value, length):
     """Return whether the value is an ascending tuple of indices of a sequence of this length."""
     return isinstance(value, tuple) and all([is_index(entry, length) for entry in value]) and ascends(value)
+
+
+def is_partial(value, length):
+    """Return whether the value is a tuple of this length of integers and None."""
+    return is_tuple_of(value, length) and all([entry is None or is_integer(entry) for entry in value])

@@ -178,13 +178,16 @@ def plainly_refutes(rules, value):
     return True
 
 
-def all_refutations(rules):
-    """Yield a refutation for each choice of variables and of a rule for each of them that makes one."""
+def all_refutations(rules, factor=None, amount=1):
+    """Yield a refutation for each choice of variables and of a rule for each of them that makes one.
+
+    With a factor and an amount they are triples as in a pace certificate.
+    """
     size, listed = rules
     options = [[None] + [k for k in range(len(listed)) if listed[k][0] == variable] for variable in range(size)]
     for choice in product(*options):
         chosen = {variable: index for variable, index in enumerate(choice) if index is not None}
-        numbers = numbers_for(listed, chosen)
+        numbers = numbers_for(listed, chosen, factor, amount)
         if numbers is not None:
             yield tuple((variable, chosen[variable], numbers[variable]) for variable in sorted(chosen))
 
@@ -194,17 +197,21 @@ def refuted_variables(rules):
     return {triple[0] for refutation in all_refutations(rules) for triple in refutation}
 
 
-def numbers_for(listed, chosen):
-    """Return numbers with which the chosen rules, a dict from variables to indices, make a refutation, or None."""
+def numbers_for(listed, chosen, factor=None, amount=1):
+    """Return numbers with which the chosen rules, a dict from variables to indices, make a refutation, or None.
+
+    With a factor and an amount they are numbers as in a pace certificate.
+    """
     terms = [(variable, j, c) for variable, index in chosen.items() for j, c in listed[index][1]]
     if not chosen or not all(j in chosen for _, j, _ in terms):
         return None
+    factor = len(chosen) if factor is None else factor
     numbers = dict.fromkeys(chosen, 0)
     for _ in range(len(chosen) + 1):
         raised = False
         for variable, j, c in terms:
-            if numbers[variable] < numbers[j] + len(chosen) * c + 1:
-                numbers[variable] = numbers[j] + len(chosen) * c + 1
+            if numbers[variable] < numbers[j] + factor * c + amount:
+                numbers[variable] = numbers[j] + factor * c + amount
                 raised = True
     return None if raised else numbers
 

@@ -37,6 +37,21 @@ FUNCTIONS = {
         "gap_certificate(rules, variable, other)", "is_gap_certificate(rules, variable, other, value)",
         "greatest_gap(rules, variable, other)",
     ),
+    "latestof.without.elimination": (
+        "without(rules, variable)", "sources(rules, variable)", "without_all(rules, *variables)",
+        "without_each(rules, variables)", "elimination_steps(rules, *variables)", "steps_of(rules, variables)",
+        "extended(rules, variable, times)",
+    ),
+    "latestof.without.between": (
+        "occurring_variables(rules)", "interpolant(first, second)", "is_interpolant(first, second, value)",
+    ),
+    "latestof.games.games": (
+        "game_solution(rules)", "least_energies(rules)", "naming_of(rules, solution)", "is_game_solution(rules, value)",
+        "walk(rules, variable, energy, moves, naming)", "outcome(rules, variable, energy, moves, naming)",
+    ),
+    "latestof.pace.pace": (
+        "pace_certificate(rules)", "is_pace_certificate(rules, value)", "pace(rules)",
+    ),
 }
 CLASSES = {
     "latestof.errors": (
@@ -45,7 +60,14 @@ CLASSES = {
         "NothingToUndo",
     ),
 }
-GENERATORS = {"solutions_between", "all_cores", "bound_chain"}
+GENERATORS = {"solutions_between", "all_cores", "bound_chain", "elimination_steps", "steps_of", "walk"}
+CONSTANTS = {
+    "latestof.rules.rules": {"MAX_VARIABLES": 8, "MAX_RULES": 24, "MAX_DELAY": 60},
+    "latestof.rules.times": {"MAX_BOUND": 200, "MAX_LISTED": 20000},
+    "latestof.latest.latest": {"MAX_BOUND": 200},
+    "latestof.games.games": {"MAX_ENERGY": 1000},
+    "latestof.pace.pace": {"MAX_PACE_DELAY": 12},
+}
 
 
 class Interface(unittest.TestCase):
@@ -66,6 +88,12 @@ class Interface(unittest.TestCase):
             for name in listed:
                 with self.subTest(name, place=place):
                     self.assertEqual(getattr(import_module(place), name).__module__, place)
+
+    def test_constants(self):
+        for place, listed in CONSTANTS.items():
+            for name, wanted in listed.items():
+                found = getattr(import_module(place), name)
+                self.assertEqual((type(found), found), (int, wanted), (place, name))
 
     def test_arguments_may_be_passed_by_name(self):
         times = import_module("latestof.rules.times")

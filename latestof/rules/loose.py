@@ -12,10 +12,11 @@ def in_order(terms):
 def delayed(rules, factor, amount):
     """Return the rule set whose delays are multiplied by the factor, with the amount added to them."""
     size, listed = rules
-    return size, tuple([(left, _delayed_terms(terms, factor, amount)) for left, terms in listed])
+    return size, tuple([(left, delayed_terms(terms, factor, amount)) for left, terms in listed])
 
 
-def _delayed_terms(terms, factor, amount):
+def delayed_terms(terms, factor, amount):
+    """Return the terms with their delays multiplied by the factor, and the amount added to them."""
     return tuple([(variable, factor * delay + amount) for variable, delay in terms])
 
 

@@ -59,13 +59,18 @@ def check_number_of(rules):
 
 def check_delays(rules):
     """Raise TooLarge if a rule has a delay that a rule set may not have."""
-    if not all([is_delay(delay) for _, terms in rules for _, delay in terms]):
+    if not all([_has_delays(rule) for rule in rules]):
         raise TooLarge(MAX_DELAY)
 
 
 def is_rule(size, value):
     """Return whether the value is a rule of the size."""
     check_size(size)
+    return is_loose_rule(size, value) and _has_delays(value)
+
+
+def is_loose_rule(size, value):
+    """Return whether the value is a rule of the size, except that its delays may be any integers."""
     return _is_unordered_rule(size, value) and ascends([term[0] for term in value[1]])
 
 
@@ -79,15 +84,19 @@ def is_rule_set(value):
     return all([is_rule(size, rule) for rule in rules])
 
 
-def _is_term(size, value):
-    return is_tuple_of(value, 2) and is_index(value[0], size) and is_delay(value[1])
-
-
 def _is_unordered_rule(size, value):
-    """Return whether the value is a pair of a variable and terms in any order, perhaps with repeats."""
+    """Return whether the value is a pair of a variable and terms: any delays, in any order, perhaps with repeats."""
     if not is_tuple_of(value, 2) or not is_index(value[0], size) or not isinstance(value[1], tuple):
         return False
-    return all([_is_term(size, term) for term in value[1]])
+    return all([_is_loose_term(size, term) for term in value[1]])
+
+
+def _is_loose_term(size, value):
+    return is_tuple_of(value, 2) and is_index(value[0], size) and is_integer(value[1])
+
+
+def _has_delays(rule):
+    return all([is_delay(delay) for _, delay in rule[1]])
 
 
 def make_rules(size, *rules):
@@ -98,7 +107,9 @@ def make_rules(size, *rules):
 def rules_from(size, rules):
     """Return the rule set with the rules of a tuple, whose terms may stand in any order."""
     check_size(size)
-    if not isinstance(rules, tuple) or not all([_is_unordered_rule(size, rule) for rule in rules]):
+    if not isinstance(rules, tuple):
+        raise InvalidRules("this is not a tuple of rules")
+    if not all([_is_unordered_rule(size, rule) and _has_delays(rule) for rule in rules]):
         raise InvalidRules("these are not pairs of a variable and terms")
     check_number_of(rules)
     return size, tuple([(left, in_order(terms)) for left, terms in rules])

@@ -13,14 +13,14 @@ def with_choice(ways, variable, terms):
     own = {}
     for other, delay in terms:
         _raise_to(own, other, delay)
-        _raise_by(own, ways.get(other, {}), delay)
+        raise_by(own, ways.get(other, {}), delay)
     if own.get(variable, -1) >= 0:
         return None
     found = {variable: own}
     for start in ways:
         longer = dict(ways[start])
         if variable in longer:
-            _raise_by(longer, own, longer[variable])
+            raise_by(longer, own, longer[variable])
         found[start] = longer
     return found
 
@@ -31,7 +31,7 @@ def _raise_to(sums, variable, total):
         sums[variable] = total
 
 
-def _raise_by(sums, further, delay):
+def raise_by(sums, further, delay):
     """Let the sums be at least those of the further ways behind a way with this delay."""
     for variable, total in further.items():
         _raise_to(sums, variable, delay + total)

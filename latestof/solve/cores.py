@@ -16,13 +16,16 @@ def core_certificate(rules):
     refutation = split_of(rules)[1]
     if refutation is None:
         return None
-    solutions = _core_within(rules, indices_of(refutation))
+    solutions = core_within(rules, indices_of(refutation))
     core = tuple(solutions)
     return core, _refutation_of(rules, core), tuple([solutions[index] for index in core])
 
 
-def _core_within(rules, indices):
-    """Return a dict from the indices of a core among these, ascending, to times for the other rules of the core."""
+def core_within(rules, indices):
+    """Return a dict from the indices of a core among these, ascending, to times for the other rules of the core.
+
+    The rules may be loose, and those with the indices have no solution.
+    """
     solutions = {}
     core = indices
     for index in indices:

@@ -1,6 +1,6 @@
 """Splits of rule sets: who has a time, and why the others have none. The rules may be loose; they are not checked."""
 
-from latestof.checks import is_integer, is_tuple_of
+from latestof.checks import is_partial, is_tuple_of
 from latestof.rules.holding import fulfils
 from latestof.solve.refutations import refutation_from, refutes, variables_of
 from latestof.solve.settling import settled
@@ -22,7 +22,7 @@ def refutation_of_rest(rules, times, choices):
 
 def splits(rules, value):
     """Return whether the value is a partial solution and a refutation that fits it, or None if it is a solution."""
-    if not is_tuple_of(value, 2) or not _is_partial_solution(rules, value[0]):
+    if not is_tuple_of(value, 2) or not is_partial(value[0], rules[0]) or not fulfils(rules, value[0]):
         return False
     partial, refutation = value
     missing = without_time(partial)
@@ -34,9 +34,3 @@ def splits(rules, value):
 def without_time(partial):
     """Return the variables that have None, ascending."""
     return [variable for variable, entry in enumerate(partial) if entry is None]
-
-
-def _is_partial_solution(rules, value):
-    if not is_tuple_of(value, rules[0]) or not all([entry is None or is_integer(entry) for entry in value]):
-        return False
-    return fulfils(rules, value)

@@ -1,0 +1,1 @@
+"""Rules as an energy game."""

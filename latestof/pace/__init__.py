@@ -1,0 +1,1 @@
+"""How fast rules go."""

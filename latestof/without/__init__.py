@@ -1,0 +1,1 @@
+"""Rules without some variables, and rules between two rule sets."""
