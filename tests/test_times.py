@@ -1,4 +1,5 @@
 import copy
+import time
 import unittest
 from itertools import product
 
@@ -12,6 +13,34 @@ from tests.support import BAD_RULE_SETS, BAD_SIZES, BAD_TIMES, HUGE, NO_INTEGERS
 # These are not times of any size.
 NO_TIMES = tuple(value for value in BAD_TIMES if value not in ((0,), (0, 0, 0)))
 BAD_BOUNDS = NO_INTEGERS + (-201, 201, HUGE, -HUGE)
+# For each size the greatest number of values of which there are at most 20000 times.
+WIDTHS = ((1, 401), (2, 141), (3, 27), (4, 11), (5, 7), (6, 5), (7, 4), (8, 3))
+
+
+def plainly_between(rules, low, high):
+    """Return the solutions with times from low to high: tries all of them one by one."""
+    return [times for times in product(range(low, high + 1), repeat=rules[0])
+            if all(plainly_holds(rule, times) for rule in rules[1])]
+
+
+def drawn_with_additions():
+    """Return rule sets of one to four variables, as drawn and with rules that hold never or always."""
+    draw = Draw(41)
+    found = []
+    for size in range(1, 5):
+        found.append((size, ()))
+        for low, high in ((-3, 2), (-1, 1), (-1, 0), (0, 3), (-60, 59)):
+            for _ in range(8):
+                size, listed = draw.rule_set(size, draw.between(1, 5), low, high, 3)
+                left = draw.below(size)
+                never = (left, ())
+                always = (left, ((left, draw.between(0, 59)),))
+                at = draw.below(len(listed) + 1)
+                found.append((size, listed))
+                found.append((size, listed[:at] + (never,) + listed[at:]))
+                found.append((size, listed[:at] + (always,) + listed[at:]))
+                found.append((size, tuple(rule for rule in listed if rule[1]) + (always, always)))
+    return found
 
 
 class Examples(unittest.TestCase):
@@ -217,9 +246,42 @@ class SolutionsBetween(unittest.TestCase):
                 rules = draw.rule_set(size, draw.between(0, 4), -3, 2, 3)
                 low = draw.between(-5, 2)
                 high = low + draw.between(-1, 3)
-                wanted = [times for times in product(range(low, high + 1), repeat=size)
-                          if all(plainly_holds(rule, times) for rule in rules[1])]
-                self.assertEqual(list(solutions_between(rules, low, high)), wanted)
+                self.assertEqual(list(solutions_between(rules, low, high)), plainly_between(rules, low, high))
+
+    def test_with_rules_that_hold_never_or_always(self):
+        draw = Draw(42)
+        found = 0
+        for rules in drawn_with_additions():
+            reach = (12, 6, 4, 2)[rules[0] - 1]
+            low = draw.between(-4, 4)
+            for low, high in ((low, low + reach), (low, low), (200 - reach, 200), (-200, reach - 200), (200, 200),
+                              (-200, -200), (low, low - 1), (200, -200), (-199, -200)):
+                values = list(solutions_between(rules, low, high))
+                self.assertEqual(values, plainly_between(rules, low, high), (rules, low, high))
+                found += len(values)
+        self.assertGreater(found, 10000)
+
+    def test_many_rules(self):
+        draw = Draw(43)
+        for size in range(1, 9):
+            for low, high in ((-2, 2), (-60, 59), (0, 2), (-2, 0)):
+                for many in (8, 24):
+                    rules = draw.rule_set(size, many, low, high)
+                    end = (9, 5, 3, 2, 1, 1, 1, 1)[size - 1]
+                    self.assertEqual(list(solutions_between(rules, 0, end)), plainly_between(rules, 0, end))
+
+    def test_a_solution_alone(self):
+        # The ring leaves only equal times; with a chain only the greatest difference is left.
+        for size in range(2, 9):
+            width = min(dict(WIDTHS)[size], 61)
+            equal = (size, tuple((k, (((k + 1) % size, 0),)) for k in range(size)))
+            self.assertEqual(list(solutions_between(equal, 7, 6 + width)), [(k,) * size for k in range(7, 7 + width)])
+            far = (size, tuple((k, ((k + 1, 0),)) for k in range(size - 1)) + ((0, ((size - 1, 1 - width),)),))
+            self.assertEqual({(times[0], times[-1]) for times in solutions_between(far, 0, width - 1)}, {(0, width - 1)})
+            early = (size, tuple((0, ((k, 1 - width),)) for k in range(1, size)))
+            self.assertEqual(list(solutions_between(early, 0, width - 1)), [(0,) + (width - 1,) * (size - 1)])
+            late = (size, tuple((k, ((0, 1 - width),)) for k in range(1, size)))
+            self.assertEqual(list(solutions_between(late, 0, width - 1)), [(width - 1,) + (0,) * (size - 1)])
 
     def test_ascending(self):
         found = list(solutions_between((3, ()), -2, 1))
@@ -240,16 +302,53 @@ class SolutionsBetween(unittest.TestCase):
         self.assertEqual(list(solutions_between((8, ()), 1, 0)), [])
 
     def test_never_more_than_20000(self):
-        # The greatest number of values for each size, from 2 on.
-        for size, width in ((2, 141), (3, 27), (4, 11), (5, 7), (6, 5), (7, 4), (8, 3)):
+        for size, width in WIDTHS[1:]:
             self.assertTrue(width ** size <= 20000 < (width + 1) ** size)
-            impossible = (size, ((size - 1, ()),))
-            self.assertEqual(list(solutions_between(impossible, 0, width - 1)), [])
-            with self.assertRaises(TooLarge) as caught:
-                list(solutions_between(impossible, 0, width))
-            self.assertEqual(caught.exception.limit, 20000)
-        self.assertEqual(len(list(solutions_between((7, ()), -1, 2))), 4 ** 7)
-        self.assertRaises(TooLarge, list, solutions_between((8, ()), -200, 200))
+            ring = (size, tuple((k, (((k + 1) % size, -1),)) for k in range(size)))
+            for rules in ((size, ((size - 1, ()),)), (size, ((0, ()),)), ring):
+                for low in (-200, 0, 201 - width):
+                    self.assertEqual(list(solutions_between(rules, low, low + width - 1)), [])
+            for rules in ((size, ((size - 1, ()),)), (size, ()), ring):
+                for low, high in ((0, width), (-200, width - 200), (200 - width, 200), (-200, 200)):
+                    with self.assertRaises(TooLarge) as caught:
+                        next(solutions_between(rules, low, high))
+                    self.assertEqual(caught.exception.limit, 20000)
+                self.assertEqual(list(solutions_between(rules, 200, -200)), [])
+        self.assertEqual(list(solutions_between((1, ((0, ()),)), -200, 200)), [])
+
+    def test_all_times_without_rules(self):
+        for size, width in WIDTHS:
+            found = list(solutions_between((size, ()), -200, width - 201))
+            self.assertEqual(found, list(product(range(-200, width - 200), repeat=size)))
+            always = (size, tuple((k, ((k, 0),)) for k in range(size)))
+            self.assertEqual(list(solutions_between(always, -200, width - 201)), found)
+
+    def test_rules_without_solutions_are_quick(self):
+        start = time.process_time()
+        for _ in range(300):
+            for size, width in WIDTHS[1:]:
+                self.assertEqual(list(solutions_between((size, ((0, ()),)), -200, width - 201)), [])
+        self.assertLess(time.process_time() - start, 1)
+        start = time.process_time()
+        for rules in drawn_with_additions():
+            for size, width in WIDTHS[1:]:
+                for never in ((size - 1, ()), (0, ((0, -1),))):
+                    some = tuple((left % size, ((left % size, 0),)) for left, _ in rules[1])
+                    self.assertEqual(list(solutions_between((size, some + (never,)), 201 - width, 200)), [])
+        self.assertLess(time.process_time() - start, 3)
+
+    def test_first_value_comes_at_once(self):
+        start = time.process_time()
+        for _ in range(100):
+            for size, width in WIDTHS:
+                self.assertEqual(next(solutions_between((size, ()), -200, width - 201)), (-200,) * size)
+        self.assertLess(time.process_time() - start, 1)
+
+    def test_two_generators_do_not_disturb_each_other(self):
+        rules = (2, ((0, ((1, -1),)),))
+        one, other = solutions_between(rules, 0, 2), solutions_between(rules, 0, 2)
+        self.assertEqual([next(one), next(one), next(other), next(one), next(other)],
+                         [(0, 1), (0, 2), (0, 1), (1, 2), (0, 2)])
 
     def test_wrong_bounds(self):
         for bound in BAD_BOUNDS:

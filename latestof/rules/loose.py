@@ -34,6 +34,13 @@ def simplified_rule(rule):
     return left, tuple([term for term in terms if term[0] != left])
 
 
+def simplified_rules(rules):
+    """Return the rule set without rules that always hold, and without own terms that never help."""
+    size, listed = rules
+    simpler = [simplified_rule(rule) for rule in listed]
+    return size, tuple([rule for rule in simpler if rule is not None])
+
+
 def chosen_rules(rules, indices):
     """Return the rule set that has only the rules with these indices, in their order."""
     size, listed = rules

@@ -2,7 +2,7 @@
 
 from latestof.checks import ascends, is_index, is_integer, is_tuple_of, is_within
 from latestof.errors import InvalidNumber, InvalidRules, TooLarge, UnknownVariable
-from latestof.rules.loose import delayed, in_order, negated, simplified_rule
+from latestof.rules.loose import delayed, in_order, negated, simplified_rules
 
 MAX_VARIABLES = 8
 MAX_RULES = 24
@@ -141,9 +141,7 @@ def negation(size, rule):
 def simplified(rules):
     """Return the rule set without rules that always hold, and without own terms that never help."""
     check_rules(rules)
-    size, listed = rules
-    simpler = [simplified_rule(rule) for rule in listed]
-    return size, tuple([rule for rule in simpler if rule is not None])
+    return simplified_rules(rules)
 
 
 def with_delay(rules, amount):

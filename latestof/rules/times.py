@@ -3,7 +3,9 @@
 from latestof.checks import is_index, is_integer, is_tuple_of, is_within
 from latestof.errors import InvalidNumber, InvalidTimes, TooLarge
 from latestof.rules.holding import fulfils, greatest_sum, holds
+from latestof.rules.loose import simplified_rules
 from latestof.rules.rules import check_rules, check_size, is_size
+from latestof.solve.settling import settled
 
 MAX_BOUND = 200
 MAX_LISTED = 20000
@@ -79,14 +81,16 @@ def solutions_between(rules, low, high):
     for bound in (low, high):
         if not is_within(bound, -MAX_BOUND, MAX_BOUND):
             raise InvalidNumber(bound)
-    width = max(0, high - low + 1)
-    many = _power(width, rules[0])
-    if many > MAX_LISTED:
+    size = rules[0]
+    if low <= high and _power(high - low + 1, size) > MAX_LISTED:
         raise TooLarge(MAX_LISTED)
-    for place in range(many):
-        times = _times_at(place, rules[0], low, width)
-        if fulfils(rules, times):
-            yield times
+    # No solution within the bounds is later than the latest one. So often there is nothing to try.
+    caps = settled(rules, (high,) * size)[0]
+    if None not in caps and low <= min(caps):
+        begun = ()
+        simpler = simplified_rules(rules)[1]
+        limits = [_limits_of(simpler, variable) for variable in range(size)]
+        yield from _solutions_from(begun, low, caps, limits)
 
 
 def _power(base, exponent):
@@ -96,10 +100,38 @@ def _power(base, exponent):
     return product
 
 
-def _times_at(place, size, low, width):
-    """Return the times at this place among all those from low on, ascending, with as many values as width."""
-    digits = []
-    for _ in range(size):
-        place, digit = divmod(place, width)
-        digits.append(low + digit)
-    return tuple(reversed(digits))
+def _limits_of(listed, variable):
+    """Return what limits the variable: the terms of its rules, and (left, delay, other terms) for each term of it."""
+    above = [terms for left, terms in listed if left == variable]
+    below = [(left, delay, [term for term in terms if term[0] != variable])
+             for left, terms in listed for other, delay in terms if other == variable]
+    return above, below
+
+
+def _solutions_from(begun, low, caps, limits):
+    """Yield all solutions that begin with these times, ascending. All times are at least low and at most the caps."""
+    first, last = _span(begun, low, caps, limits[len(begun)])
+    for time in range(first, last + 1):
+        longer = (*begun, time)
+        if len(longer) == len(caps):
+            yield longer
+        else:
+            yield from _solutions_from(longer, low, caps, limits)
+
+
+def _span(begun, low, caps, limits):
+    """Return the first and the last time of the next variable with which each rule of it can still hold.
+
+    The variables behind it are given the best times that they can have. For the last one nothing is left to chance.
+    """
+    place = len(begun)
+    above, below = limits
+    best = (*begun, *caps[place:])
+    last = min([greatest_sum(terms, best) for terms in above], default=caps[place])
+    first = low
+    for left, delay, others in below:
+        least = begun[left] if left < place else low
+        right = greatest_sum(others, best)
+        if right is None or right < least:
+            first = max(first, least - delay)
+    return first, min(last, caps[place])

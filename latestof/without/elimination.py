@@ -2,7 +2,7 @@
 
 from latestof.errors import InvalidNumber, InvalidTimes
 from latestof.rules.holding import fulfils, greatest_sum
-from latestof.rules.loose import delayed_terms, in_order, simplified_rule
+from latestof.rules.loose import delayed_terms, in_order, simplified_rule, simplified_rules
 from latestof.rules.rules import check_delays, check_number_of, check_rules, check_variable
 from latestof.rules.times import check_times
 
@@ -112,11 +112,10 @@ def _best_time(rules, variable, times):
 
     Without rules of its own it is as late as any term needs it. If a rule of its own has no terms, no time will do.
     """
-    simpler = [simplified_rule(rule) for rule in rules[1]]
-    left = [rule for rule in simpler if rule is not None]
-    rights = [greatest_sum(terms, times) for start, terms in left if start == variable]
+    simpler = simplified_rules(rules)[1]
+    rights = [greatest_sum(terms, times) for left, terms in simpler if left == variable]
     if not rights:
-        return max([times[start] - delay for start, terms in left for other, delay in terms if other == variable],
-                   default=times[variable])
+        needed = [times[left] - delay for left, terms in simpler for other, delay in terms if other == variable]
+        return max(needed, default=times[variable])
     allowed = [right for right in rights if right is not None]
     return min(allowed, default=times[variable])
