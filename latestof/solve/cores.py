@@ -89,7 +89,7 @@ def _grown(listed, chosen, ways):
     start = listed[chosen[0]][0]
     missing = [variable for variable in ways[start] if variable not in ways]
     if not missing:
-        leads_back = all([variable == start or start in ways[variable] for variable in ways])
+        leads_back = all([start in ways[variable] for variable in ways])
         return [tuple(sorted(chosen))] if leads_back else []
     found = []
     for index in range(chosen[0] + 1, len(listed)):
