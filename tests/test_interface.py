@@ -52,6 +52,18 @@ FUNCTIONS = {
     "latestof.pace.pace": (
         "pace_certificate(rules)", "is_pace_certificate(rules, value)", "pace(rules)",
     ),
+    "latestof.pace.repair": (
+        "least_allowance(rules)", "is_least_allowance(rules, value)", "repair_certificate(rules, *, keep=())",
+        "is_repair_certificate(rules, value, *, keep=())", "repairs(rules, *, keep=())",
+    ),
+    "latestof.terms.expressions": (
+        "is_expression(size, value)", "value_of(times, expression)", "numbered(events, expression)",
+        "format_expression(expression)", "parse_expression(text)",
+    ),
+    "latestof.terms.forms": (
+        "form_of(size, expression)", "is_at_most(size, first, second)", "exceeding_times(size, first, second)",
+        "rules_of(size, first, second)",
+    ),
 }
 CLASSES = {
     "latestof.errors": (
@@ -59,14 +71,36 @@ CLASSES = {
         "InvalidPlan", "ParseError", "UnknownVariable", "UnknownEvent", "InvalidNumber", "TooLarge", "Refuted",
         "NothingToUndo",
     ),
+    "latestof.plans.clauses": (
+        "Clause", "AtLeast", "AtMost", "Between", "SomeOf", "AllOf", "Together", "Compare",
+    ),
 }
-GENERATORS = {"solutions_between", "all_cores", "bound_chain", "elimination_steps", "steps_of", "walk"}
+# What is defined in a class itself. Behind a name without brackets stands what it is, or its value.
+MEMBERS = {
+    "latestof.plans.clauses.Clause": (
+        "LIMIT 59", "events property", "rules_for(self, names)", "holds(self, times)", "renamed(self, names)",
+        "__str__(self)", "__eq__(self, other)", "read staticmethod (text)",
+    ),
+    "latestof.plans.clauses.AtLeast": ("__init__(self, first, second, *, least=0)",),
+    "latestof.plans.clauses.AtMost": ("__init__(self, first, second, *, most=0)",),
+    "latestof.plans.clauses.Between": ("__init__(self, first, second, *, least=0, most=0)",),
+    "latestof.plans.clauses.SomeOf": ("__init__(self, event, *options)", "over classmethod (event, options)"),
+    "latestof.plans.clauses.AllOf": ("__init__(self, event, *options)",),
+    "latestof.plans.clauses.Together": (
+        "__init__(self, *events, apart=0)", "over classmethod (events, *, apart=0)",
+    ),
+    "latestof.plans.clauses.Compare": ("__init__(self, left, right)",),
+}
+GENERATORS = {"solutions_between", "all_cores", "bound_chain", "elimination_steps", "steps_of", "walk", "repairs"}
+GENERATOR_METHODS = set()
 CONSTANTS = {
     "latestof.rules.rules": {"MAX_VARIABLES": 8, "MAX_RULES": 24, "MAX_DELAY": 60},
     "latestof.rules.times": {"MAX_BOUND": 200, "MAX_LISTED": 20000},
     "latestof.latest.latest": {"MAX_BOUND": 200},
     "latestof.games.games": {"MAX_ENERGY": 1000},
     "latestof.pace.pace": {"MAX_PACE_DELAY": 12},
+    "latestof.terms.expressions": {"MAX_PARTS": 6, "MAX_DEPTH": 6, "MAX_NODES": 60},
+    "latestof.terms.forms": {"MAX_MAXIMA": 60},
 }
 
 
@@ -76,7 +110,7 @@ class Interface(unittest.TestCase):
             module = import_module(place)
             for text in listed:
                 with self.subTest(text, place=place):
-                    name, arguments = text.split("(")
+                    name, arguments = text.split("(", 1)
                     function = getattr(module, name)
                     self.assertTrue(inspect.isfunction(function))
                     self.assertEqual(function.__module__, place)
@@ -88,6 +122,33 @@ class Interface(unittest.TestCase):
             for name in listed:
                 with self.subTest(name, place=place):
                     self.assertEqual(getattr(import_module(place), name).__module__, place)
+
+    def test_members_are_defined_in_their_classes(self):
+        for place, listed in MEMBERS.items():
+            module, name = place.rsplit(".", 1)
+            built = getattr(import_module(module), name)
+            for text in listed:
+                with self.subTest(text, place=place):
+                    self.check_member(built, text)
+
+    def check_member(self, built, text):
+        if " " not in text.split("(")[0]:
+            name, arguments = text.split("(", 1)
+            function = vars(built)[name]
+            self.assertTrue(inspect.isfunction(function))
+            self.assertEqual(str(inspect.signature(function)), "(" + arguments)
+            self.assertEqual(inspect.isgeneratorfunction(function), name in GENERATOR_METHODS)
+            return
+        name, kind, *arguments = text.split(" ", 2)
+        found = vars(built)[name]
+        if kind in ("property", "setter"):
+            self.assertIsInstance(found, property)
+            self.assertEqual(found.fset is not None, kind == "setter")
+        elif kind in ("staticmethod", "classmethod"):
+            self.assertEqual(type(found).__name__, kind)
+            self.assertEqual(str(inspect.signature(getattr(built, name))), arguments[0])
+        else:
+            self.assertEqual((type(found), found), (int, int(kind)))
 
     def test_constants(self):
         for place, listed in CONSTANTS.items():

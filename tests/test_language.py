@@ -4,6 +4,7 @@ import ast
 import builtins
 import re
 import unittest
+from functools import cache
 from pathlib import Path
 
 PACKAGE = Path(__file__).resolve().parent.parent / "latestof"
@@ -29,6 +30,8 @@ BARRED_NODES = (
     ast.TryStar, ast.GeneratorExp, ast.AnnAssign,
 )
 PLAIN_LINE = re.compile(r"[ -~]*")
+CONSUMERS = set("list tuple dict sorted sum min max any all enumerate zip".split())
+DOUBLE_UNDERSCORES = {"__init__", "__eq__", "__str__", "__len__"}
 LIBRARY = ("heapq", "math", "itertools", "collections")
 
 
@@ -36,6 +39,7 @@ def files():
     return sorted(PACKAGE.rglob("*.py"))
 
 
+@cache
 def trees():
     return [(path, ast.parse(path.read_text(encoding="utf-8"))) for path in files()]
 
@@ -125,12 +129,31 @@ class Imports(unittest.TestCase):
                     self.assertIn(alias.name, used, path)
 
 
-class Generators(unittest.TestCase):
-    CONSUMERS = set("list tuple dict sorted sum min max any all enumerate zip".split())
+def is_generator(node):
+    return isinstance(node, ast.FunctionDef) and any(
+        isinstance(part, (ast.Yield, ast.YieldFrom)) for part in ast.walk(node))
 
+
+def iterated_at_once(tree):
+    """Return the nodes that are iterated on the spot."""
+    found = set()
+    for node in ast.walk(tree):
+        if isinstance(node, (ast.For, ast.comprehension)):
+            found.add(node.iter)
+        elif isinstance(node, ast.YieldFrom):
+            found.add(node.value)
+        elif isinstance(node, ast.Call) and isinstance(node.func, ast.Name) and node.func.id in CONSUMERS:
+            found.update(node.args)
+    return found
+
+
+class Generators(unittest.TestCase):
     def generators(self):
-        return {node.name for _, tree in trees() for node in ast.walk(tree) if isinstance(node, ast.FunctionDef)
-                and any(isinstance(part, (ast.Yield, ast.YieldFrom)) for part in ast.walk(node))}
+        return {node.name for _, tree in trees() for node in ast.walk(tree) if is_generator(node)}
+
+    def functions(self):
+        """Return the generators at module level."""
+        return {node.name for _, tree in trees() for node in tree.body if is_generator(node)}
 
     def test_names(self):
         named = [node.name for _, tree in trees() for node in ast.walk(tree) if isinstance(node, ast.FunctionDef)]
@@ -139,26 +162,35 @@ class Generators(unittest.TestCase):
             self.assertNotIn(name, METHODS)
 
     def test_calls_are_iterated_at_once(self):
-        generators = self.generators()
+        generators, functions = self.generators(), self.functions()
         for path, tree in trees():
-            fitting = set()
-            for node in ast.walk(tree):
-                if isinstance(node, (ast.For, ast.comprehension)):
-                    fitting.add(node.iter)
-                elif isinstance(node, ast.YieldFrom):
-                    fitting.add(node.value)
-                elif isinstance(node, ast.Call) and isinstance(node.func, ast.Name) and node.func.id in self.CONSUMERS:
-                    fitting.update(node.args[:1])
+            fitting = iterated_at_once(tree)
             calls = [node for node in ast.walk(tree) if isinstance(node, ast.Call)]
-            called = [node.func for node in calls]
+            called = {node.func for node in calls}
             for node in ast.walk(tree):
-                if isinstance(node, ast.Name) and node.id in generators:
+                if isinstance(node, ast.Name) and node.id in functions:
+                    self.assertIn(node, called, (path, node.lineno))
+                if isinstance(node, ast.Attribute) and node.attr in generators:
                     self.assertIn(node, called, (path, node.lineno))
             for node in calls:
-                if isinstance(node.func, ast.Name) and node.func.id in generators:
+                name = node.func.attr if isinstance(node.func, ast.Attribute) else getattr(node.func, "id", None)
+                if name in generators:
                     self.assertIn(node, fitting, (path, node.lineno))
                     for part in node.args:
                         self.assertIsInstance(part, (ast.Name, ast.Attribute, ast.Constant), (path, node.lineno))
+
+    def test_ranges_and_views_are_iterated_at_once(self):
+        for path, tree in trees():
+            fitting = iterated_at_once(tree)
+            for node in ast.walk(tree):
+                if not isinstance(node, ast.Call):
+                    continue
+                if isinstance(node.func, ast.Name):
+                    wanted = node.func.id in ("range", "zip", "enumerate", "reversed")
+                else:
+                    wanted = isinstance(node.func, ast.Attribute) and node.func.attr in ("items", "keys", "values")
+                if wanted:
+                    self.assertIn(node, fitting, (path, node.lineno))
 
     def test_yields_are_statements_outside_of_try_and_with(self):
         for path, tree in trees():
@@ -169,6 +201,143 @@ class Generators(unittest.TestCase):
                 elif isinstance(node, (ast.Try, ast.With)):
                     inside = list(ast.walk(node))
                     self.assertFalse(any(isinstance(part, (ast.Yield, ast.YieldFrom)) for part in inside))
+
+
+class Classes(unittest.TestCase):
+    def classes(self):
+        return [node for _, tree in trees() for node in tree.body if isinstance(node, ast.ClassDef)]
+
+    def methods(self):
+        return [node for built in self.classes() for node in built.body if isinstance(node, ast.FunctionDef)]
+
+    def decorators_of(self, node):
+        return [part.id if isinstance(part, ast.Name) else part.attr for part in node.decorator_list]
+
+    def attributes(self):
+        """Return the names of all attributes that are assigned anywhere, setters not counted."""
+        found = {node.attr for _, tree in trees() for node in ast.walk(tree)
+                 if isinstance(node, ast.Attribute) and isinstance(node.ctx, ast.Store)}
+        return found - {node.name for node in self.methods() if "setter" in self.decorators_of(node)}
+
+    def test_classes_stand_at_module_level_and_contain_methods_and_values(self):
+        for path, tree in trees():
+            nodes = [node for node in ast.walk(tree) if isinstance(node, ast.ClassDef)]
+            self.assertEqual(nodes, [node for node in tree.body if isinstance(node, ast.ClassDef)], path)
+        for node in self.classes():
+            self.assertEqual((node.decorator_list, node.keywords), ([], []))
+            for part in node.body[1 if ast.get_docstring(node) else 0:]:
+                self.assertIsInstance(part, (ast.FunctionDef, ast.Assign), (node.name, part.lineno))
+                if isinstance(part, ast.Assign):
+                    self.assertIsInstance(part.value, ast.Constant)
+
+    def test_decorators(self):
+        for path, tree in trees():
+            for node in ast.walk(tree):
+                if isinstance(node, ast.FunctionDef) and node not in self.methods():
+                    self.assertEqual(node.decorator_list, [], (path, node.lineno))
+        for node in self.methods():
+            self.assertIn(self.decorators_of(node), ([], ["property"], ["setter"], ["staticmethod"], ["classmethod"]))
+
+    def test_no_name_is_a_method_and_an_attribute(self):
+        names = {node.name for node in self.methods() if "setter" not in self.decorators_of(node)}
+        self.assertFalse(names & self.attributes())
+        self.assertFalse((names - {"__init__"}) & (METHODS - DOUBLE_UNDERSCORES))
+
+    def test_names_of_properties_and_of_static_and_class_methods_are_free(self):
+        kinds = {}
+        for node in self.methods():
+            kind = (self.decorators_of(node) + ["plain"])[0]
+            kind = {"setter": "property", "classmethod": "staticmethod"}.get(kind, kind)
+            kinds.setdefault(node.name, set()).add(kind)
+        for name, found in kinds.items():
+            self.assertEqual(len(found), 1, name)
+            if found != {"plain"}:
+                for value in ("", b"", 0, [], {}, set(), ()):
+                    self.assertFalse(hasattr(value, name), name)
+
+    def test_double_underscore_methods(self):
+        for node in self.methods():
+            if node.name not in DOUBLE_UNDERSCORES or node.name == "__init__":
+                continue
+            returns = [part.value for part in ast.walk(node) if isinstance(part, ast.Return)]
+            self.assertIsInstance(node.body[-1], ast.Return)
+            for part in ast.walk(node):
+                if isinstance(part, ast.Assign):
+                    self.assertIsInstance(part.targets[0], ast.Name, (node.name, part.lineno))
+                    self.assertIsInstance(part.value, (ast.List, ast.Dict, ast.ListComp, ast.Call), node.name)
+            if node.name == "__len__":
+                self.assertEqual([value.func.id for value in returns], ["len"])
+            if node.name == "__str__":
+                for value in returns:
+                    self.assertTrue(isinstance(value, (ast.Constant, ast.JoinedStr)) or value.func.id == "str"
+                                    if not isinstance(getattr(value, "func", None), ast.Attribute)
+                                    else value.func.attr == "join")
+
+    def test_properties_and_comparisons_change_nothing(self):
+        for node in self.methods():
+            decorators = self.decorators_of(node)
+            if "property" in decorators or node.name in DOUBLE_UNDERSCORES - {"__init__"}:
+                for part in ast.walk(node):
+                    if isinstance(part, (ast.Attribute, ast.Subscript)):
+                        self.assertIsInstance(part.ctx, ast.Load, (node.name, part.lineno))
+                    self.assertNotIsInstance(part, (ast.AugAssign, ast.Delete))
+
+    def test_attributes_that_are_read_are_assigned_or_methods(self):
+        known = self.attributes() | {node.name for node in self.methods()} | METHODS | {"setter"}
+        known |= {part.targets[0].id for node in self.classes() for part in node.body if isinstance(part, ast.Assign)}
+        for path, tree in trees():
+            for node in ast.walk(tree):
+                if isinstance(node, ast.Attribute):
+                    self.assertIn(node.attr, known, (path, node.lineno))
+
+    def test_classes_are_called_or_named_only_where_they_may_be(self):
+        names = {node.name for node in self.classes()}
+        for path, tree in trees():
+            fitting = set()
+            for node in ast.walk(tree):
+                if isinstance(node, ast.Call):
+                    fitting.add(node.func)
+                    if isinstance(node.func, ast.Name) and node.func.id == "isinstance":
+                        fitting.update(getattr(node.args[1], "elts", [node.args[1]]))
+                elif isinstance(node, ast.ClassDef):
+                    fitting.update(node.bases)
+                elif isinstance(node, ast.ExceptHandler):
+                    fitting.update(getattr(node.type, "elts", [node.type]))
+                elif isinstance(node, ast.Attribute):
+                    fitting.add(node.value)
+            for node in ast.walk(tree):
+                if isinstance(node, ast.Name) and node.id in names:
+                    self.assertIn(node, fitting, (path, node.lineno))
+
+
+class Errors(unittest.TestCase):
+    def test_only_own_errors_are_caught(self):
+        own = {node.name for path, tree in trees() for node in tree.body
+               if isinstance(node, ast.ClassDef) and path.name == "errors.py"}
+        for path, tree in trees():
+            for node in ast.walk(tree):
+                if isinstance(node, ast.ExceptHandler):
+                    for part in getattr(node.type, "elts", [node.type]):
+                        self.assertIn(part.id, own, (path, node.lineno))
+
+    def test_errors_are_made_where_they_are_raised(self):
+        for path, tree in trees():
+            for node in ast.walk(tree):
+                if isinstance(node, ast.Raise):
+                    self.assertIsInstance(node.exc, ast.Call, (path, node.lineno))
+                    self.assertIsInstance(node.exc.func, ast.Name, (path, node.lineno))
+                    self.assertTrue(node.cause is None or node.cause.value is None, (path, node.lineno))
+
+    def test_finally_only_assigns_names_to_attributes(self):
+        for path, tree in trees():
+            for node in ast.walk(tree):
+                if isinstance(node, ast.Try):
+                    for part in node.finalbody:
+                        self.assertIsInstance(part, ast.Assign, (path, part.lineno))
+                        targets = getattr(part.targets[0], "elts", part.targets)
+                        values = getattr(part.value, "elts", [part.value])
+                        self.assertTrue(all(isinstance(target, (ast.Name, ast.Attribute)) for target in targets))
+                        self.assertTrue(all(isinstance(value, ast.Name) for value in values))
 
 
 class Words(unittest.TestCase):
@@ -191,8 +360,9 @@ class Words(unittest.TestCase):
                         self.assertIsInstance(node.ctx, ast.Store, (path, node.lineno))
                 elif isinstance(node, ast.arg):
                     self.assertFalse(hasattr(builtins, node.arg), (path, node.lineno))
-                elif isinstance(node, (ast.FunctionDef, ast.ClassDef)) and node.name != "__init__":
+                elif isinstance(node, (ast.FunctionDef, ast.ClassDef)) and node.name not in DOUBLE_UNDERSCORES:
                     self.assertFalse(hasattr(builtins, node.name), (path, node.lineno))
+                    self.assertFalse(node.name.startswith("__"), (path, node.lineno))
 
     def test_no_variable_has_the_name_of_an_import(self):
         for path, tree in trees():
@@ -209,6 +379,35 @@ class Words(unittest.TestCase):
             for node in ast.walk(tree):
                 if isinstance(node, ast.Call) and isinstance(node.func, ast.Attribute):
                     self.assertIn(node.func.attr, METHODS | own, (path, node.lineno))
+
+    def test_is_and_percent(self):
+        for path, tree in trees():
+            for node in ast.walk(tree):
+                if isinstance(node, ast.Compare):
+                    for sign, right in zip(node.ops, node.comparators):
+                        if isinstance(sign, (ast.Is, ast.IsNot)):
+                            self.assertIn(getattr(right, "value", 0), (None, True, False), (path, node.lineno))
+                if isinstance(node, ast.BinOp) and isinstance(node.op, ast.Mod):
+                    self.assertEqual(getattr(getattr(node.left, "func", None), "id", None), "sum", (path, node.lineno))
+
+    def test_stars_stand_before_names(self):
+        for path, tree in trees():
+            for node in ast.walk(tree):
+                if isinstance(node, ast.Call):
+                    for part in node.args:
+                        if isinstance(part, ast.Starred):
+                            self.assertIsInstance(part.value, ast.Name, (path, node.lineno))
+
+    def test_sets_are_used_on_the_spot(self):
+        for path, tree in trees():
+            fitting = set()
+            for node in ast.walk(tree):
+                if isinstance(node, ast.Call) and isinstance(node.func, ast.Name) and node.func.id in ("sorted", "len"):
+                    fitting.update(node.args)
+            for node in ast.walk(tree):
+                if isinstance(node, (ast.Set, ast.SetComp)) or (
+                        isinstance(node, ast.Call) and isinstance(node.func, ast.Name) and node.func.id == "set"):
+                    self.assertIn(node, fitting, (path, node.lineno))
 
     def test_strings(self):
         for path, tree in trees():

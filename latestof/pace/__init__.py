@@ -1,1 +1,1 @@
-"""How fast rules go."""
+"""How fast rules go, and what makes them feasible."""

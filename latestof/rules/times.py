@@ -29,7 +29,8 @@ def check_times(size, times):
         raise InvalidTimes("these are not times of the size")
 
 
-def _is_times_of_any_size(value):
+def is_times_of_any_size(value):
+    """Return whether the value is times of a size from 1 to 8."""
     return isinstance(value, tuple) and is_size(len(value)) and is_times(len(value), value)
 
 
@@ -53,7 +54,7 @@ def broken_rules(rules, times):
 
 def shifted(times, by):
     """Return the times with the same integer added to each of them."""
-    if not _is_times_of_any_size(times):
+    if not is_times_of_any_size(times):
         raise InvalidTimes("these are not times of a size from 1 to 8")
     if not is_integer(by):
         raise InvalidNumber(by)
@@ -67,7 +68,7 @@ def greatest_of(first, *others):
 
 def greatest_of_all(rows):
     """Return, for each variable, the greatest of its times in all rows of a tuple."""
-    if not isinstance(rows, tuple) or not rows or not _is_times_of_any_size(rows[0]):
+    if not isinstance(rows, tuple) or not rows or not is_times_of_any_size(rows[0]):
         raise InvalidTimes("these are not one or more times")
     size = len(rows[0])
     if not all([is_times(size, row) for row in rows]):

@@ -7,7 +7,7 @@ from latestof.rules.rules import check_rules
 from latestof.rules.times import is_times
 from latestof.rules.ways import with_choice
 from latestof.solve.refutations import indices_of, refutes
-from latestof.solve.splitting import split_of
+from latestof.solve.splitting import refutation_among, split_of
 
 
 def core_certificate(rules):
@@ -18,7 +18,7 @@ def core_certificate(rules):
         return None
     solutions = core_within(rules, indices_of(refutation))
     core = tuple(solutions)
-    return core, _refutation_of(rules, core), tuple([solutions[index] for index in core])
+    return core, refutation_among(rules, core), tuple([solutions[index] for index in core])
 
 
 def core_within(rules, indices):
@@ -36,12 +36,6 @@ def core_within(rules, indices):
         else:
             core = rest
     return solutions
-
-
-def _refutation_of(rules, core):
-    """Return a refutation of the rules that has the indices of the core."""
-    refutation = split_of(chosen_rules(rules, core))[1]
-    return tuple([(variable, core[place], number) for variable, place, number in refutation])
 
 
 def is_core_certificate(rules, value):

@@ -2,6 +2,7 @@
 
 from latestof.checks import is_partial, is_tuple_of
 from latestof.rules.holding import fulfils
+from latestof.rules.loose import chosen_rules
 from latestof.solve.refutations import refutation_from, refutes, variables_of
 from latestof.solve.settling import settled
 
@@ -10,6 +11,14 @@ def split_of(rules):
     """Return a partial solution, and a refutation with the variables that have None in it, or None."""
     times, choices = settled(rules, (0,) * rules[0])
     return times, refutation_of_rest(rules, times, choices)
+
+
+def refutation_among(rules, indices):
+    """Return a refutation of the rules that has only these indices, which ascend, or None if there is no such one."""
+    refutation = split_of(chosen_rules(rules, indices))[1]
+    if refutation is None:
+        return None
+    return tuple([(variable, indices[place], number) for variable, place, number in refutation])
 
 
 def refutation_of_rest(rules, times, choices):

@@ -1,0 +1,1 @@
+"""Clauses about events, and plans made of them."""

@@ -1,0 +1,1 @@
+"""Expressions of times, and the rules that compare them."""
