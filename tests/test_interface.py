@@ -64,6 +64,8 @@ FUNCTIONS = {
         "form_of(size, expression)", "is_at_most(size, first, second)", "exceeding_times(size, first, second)",
         "rules_of(size, first, second)",
     ),
+    "latestof.text.formats": ("format_rules(rules)", "parse_rules(text)"),
+    "latestof.text.packed": ("pack(rules)", "unpack(data)"),
 }
 CLASSES = {
     "latestof.errors": (
@@ -74,6 +76,8 @@ CLASSES = {
     "latestof.plans.clauses": (
         "Clause", "AtLeast", "AtMost", "Between", "SomeOf", "AllOf", "Together", "Compare",
     ),
+    "latestof.plans.plans": ("Plan",),
+    "latestof.store.store": ("Store",),
 }
 # What is defined in a class itself. Behind a name without brackets stands what it is, or its value.
 MEMBERS = {
@@ -90,9 +94,23 @@ MEMBERS = {
         "__init__(self, *events, apart=0)", "over classmethod (events, *, apart=0)",
     ),
     "latestof.plans.clauses.Compare": ("__init__(self, left, right)",),
+    "latestof.plans.plans.Plan": (
+        "__init__(self, *events)", "over classmethod (events)", "EVENTS 8", "RULES 24", "events property", "rules property",
+        "horizon setter", "with_horizon(self, value)", "include(self, clause)", "clauses(self)", "owner(self, index)",
+        "part(self, numbers)", "is_possible(self)", "times(self)", "latest(self, bounds=None, **more)",
+        "reason_for(self, event, bounds=None, **more)", "core(self)", "repair(self, *, keep=())", "support(self, clause)",
+        "follows(self, clause)", "gap(self, first, second)", "__len__(self)", "__eq__(self, other)", "__str__(self)",
+        "read classmethod (text)",
+    ),
+    "latestof.store.store.Store": (
+        "__init__(self, plan)", "__len__(self)", "__str__(self)", "__eq__(self, other)", "assume(self, clause)",
+        "withdraw(self, number)", "attempt(self, *clauses)", "attempt_all(self, clauses)", "undo(self, *, count=1)",
+        "log(self)", "during(self, clauses, call)", "report(self)", "computed property", "present property", "plan(self)",
+        "reason_for(self, event, bounds=None)",
+    ),
 }
 GENERATORS = {"solutions_between", "all_cores", "bound_chain", "elimination_steps", "steps_of", "walk", "repairs"}
-GENERATOR_METHODS = set()
+GENERATOR_METHODS = {"clauses"}
 CONSTANTS = {
     "latestof.rules.rules": {"MAX_VARIABLES": 8, "MAX_RULES": 24, "MAX_DELAY": 60},
     "latestof.rules.times": {"MAX_BOUND": 200, "MAX_LISTED": 20000},

@@ -1,0 +1,1 @@
+"""A store of assumed clauses."""

@@ -1,0 +1,1 @@
+"""Rule sets as texts and as bytes."""
