@@ -54,7 +54,7 @@ class Clause:
         """Return whether the times, a dict from events to integers, fulfil the clause."""
         if not _are_named_times(times) or not all([event in times for event in self._events]):
             raise InvalidTimes("these are not times of the events of the clause")
-        return fulfils((None, self._rules), times)
+        return fulfils((len(self._events), self._rules), times)
 
     def renamed(self, names):
         """Return the clause in which each event is replaced by its value in a dict, if it has one."""
