@@ -32,6 +32,12 @@ BARRED_NODES = (
 PLAIN_LINE = re.compile(r"[ -~]*")
 CONSUMERS = set("list tuple dict sorted sum min max any all enumerate zip".split())
 DOUBLE_UNDERSCORES = {"__init__", "__eq__", "__str__", "__len__"}
+# What L12 excludes. It allows `_wall` at the beginning of an attribute; doing without that is simpler.
+PLAIN_NAME = re.compile(r"_?[A-Za-z][A-Za-z0-9_]*|_")
+BARRED_BEGINNINGS = (
+    "_wall", "_pe_", "_dcw_", "_enum_", "_cm_", "_twin_re_", "_lay_", "_law_", "_stub_", "_sre", "_WallAttr")
+BARRED_WHOLE = re.compile(r"(_cold|_tuplegetter|_outside|_record|_written_out|_member_names)[0-9_]*")
+BARRED_WORDS = re.compile(r"\b(_wall|_WallAttr)\b")
 LIBRARY = ("heapq", "math", "itertools", "collections")
 
 
@@ -127,6 +133,34 @@ class Imports(unittest.TestCase):
                 for alias in node.names:
                     self.assertIsNone(alias.asname, path)
                     self.assertIn(alias.name, used, path)
+
+
+def names_in(tree):
+    """Return the pairs of a name and its node for all names that stand in the tree."""
+    found = []
+    for node in ast.walk(tree):
+        if isinstance(node, ast.Attribute):
+            found.append((node.attr, node))
+        elif isinstance(node, ast.Name):
+            found.append((node.id, node))
+        elif isinstance(node, (ast.arg, ast.keyword)):
+            found.append((node.arg, node))
+        elif isinstance(node, (ast.FunctionDef, ast.ClassDef, ast.ExceptHandler, ast.MatchAs, ast.MatchStar)):
+            found.append((node.name, node))
+        elif isinstance(node, (ast.Global, ast.Nonlocal)):
+            found.extend((name, node) for name in node.names)
+        elif isinstance(node, ast.alias):
+            found.append((node.name, node))
+    # A star in a call, a handler or a pattern may have no name.
+    return [(name, node) for name, node in found if name is not None]
+
+
+def is_plain_name(name):
+    """Return whether L12 allows the name."""
+    if name in DOUBLE_UNDERSCORES:
+        return True
+    barred = name.startswith(BARRED_BEGINNINGS) or BARRED_WHOLE.fullmatch(name) is not None
+    return PLAIN_NAME.fullmatch(name) is not None and not barred
 
 
 def is_generator(node):
@@ -363,6 +397,24 @@ class Words(unittest.TestCase):
                 elif isinstance(node, (ast.FunctionDef, ast.ClassDef)) and node.name not in DOUBLE_UNDERSCORES:
                     self.assertFalse(hasattr(builtins, node.name), (path, node.lineno))
                     self.assertFalse(node.name.startswith("__"), (path, node.lineno))
+
+    def test_plain_names(self):
+        for path, tree in trees():
+            for name, node in names_in(tree):
+                self.assertTrue(is_plain_name(name), (path, getattr(node, "lineno", 0), name))
+                if isinstance(node, ast.ClassDef):
+                    self.assertFalse(name.startswith("_"), (path, node.lineno))
+
+    def test_plain_names_are_told_from_others(self):
+        for name in ("rows", "_rows", "Plan", "_", "n2", "_log", "_records", "_recorded", "_coldest", "record", "__len__"):
+            self.assertTrue(is_plain_name(name), name)
+        for name in ("_record", "_record_", "_record2", "_cold", "_outside", "_member_names", "_tuplegetter",
+                     "_written_out", "_walls", "_law_of", "_sre", "_cm_", "__rows", "__", "_2", "_WallAttr", "__hash__"):
+            self.assertFalse(is_plain_name(name), name)
+
+    def test_barred_words_stand_nowhere(self):
+        for path in files():
+            self.assertIsNone(BARRED_WORDS.search(path.read_text(encoding="utf-8")), path)
 
     def test_no_variable_has_the_name_of_an_import(self):
         for path, tree in trees():

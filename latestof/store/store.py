@@ -80,7 +80,7 @@ class Store:
             raise TooLarge(Plan.RULES)
         return pairs
 
-    def _record(self, operation, assumed):
+    def _put_in_log(self, operation, assumed):
         """Put an operation into the log that leaves these clauses assumed."""
         self._log = (*self._log, (operation, self._assumed))
         self._assumed = assumed
@@ -98,7 +98,7 @@ class Store:
     def _assume(self, pair):
         fresh = self._give_numbers([pair])
         number = self._given - 1
-        self._record(("assume", number, pair[0]), {**self._assumed, **fresh})
+        self._put_in_log(("assume", number, pair[0]), {**self._assumed, **fresh})
         return number
 
     def withdraw(self, number):
@@ -106,7 +106,7 @@ class Store:
         if not is_integer(number) or number not in self._assumed:
             raise InvalidNumber(number)
         clause = self._assumed[number][0]
-        self._record(("withdraw", number), {k: self._assumed[k] for k in self._assumed if k != number})
+        self._put_in_log(("withdraw", number), {k: self._assumed[k] for k in self._assumed if k != number})
         return clause
 
     def attempt(self, *clauses):
@@ -122,7 +122,7 @@ class Store:
             border = len(self._own) + len(self._assumed)
             raise Refuted((own, numbers, tuple([place - border for place in core if place >= border])))
         fresh = self._give_numbers(pairs)
-        self._record(("attempt", tuple(fresh), clauses), {**self._assumed, **fresh})
+        self._put_in_log(("attempt", tuple(fresh), clauses), {**self._assumed, **fresh})
         return tuple(fresh)
 
     def _named(self, places):
