@@ -307,6 +307,27 @@ class Classes(unittest.TestCase):
                                     if not isinstance(getattr(value, "func", None), ast.Attribute)
                                     else value.func.attr == "join")
 
+    def test_constructors_are_called_for_a_base_of_the_own_class_only(self):
+        fitting = set()
+        for built in self.classes():
+            bases = [base.id for base in built.bases]
+            inits = [node for node in built.body if isinstance(node, ast.FunctionDef) and node.name == "__init__"]
+            for node in [part for init in inits for part in ast.walk(init) if isinstance(part, ast.Call)]:
+                callee = node.func
+                if not isinstance(callee, ast.Attribute) or callee.attr != "__init__":
+                    continue
+                if isinstance(callee.value, ast.Name):
+                    self.assertIn(callee.value.id, bases, (built.name, node.lineno))
+                    self.assertEqual(node.args[0].id, "self", (built.name, node.lineno))
+                else:
+                    self.assertEqual(ast.unparse(callee.value), "super()", (built.name, node.lineno))
+                    self.assertEqual(len(bases), 1, (built.name, node.lineno))
+                fitting.add(callee)
+        for path, tree in trees():
+            for node in ast.walk(tree):
+                if isinstance(node, ast.Attribute) and node.attr == "__init__":
+                    self.assertIn(node, fitting, (path, node.lineno))
+
     def test_properties_and_comparisons_change_nothing(self):
         for node in self.methods():
             decorators = self.decorators_of(node)

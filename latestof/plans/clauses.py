@@ -26,6 +26,13 @@ class Clause:
     LIMIT = 59
 
     def __init__(self, kind, arguments, rules, text):
+        self._set_up(kind, arguments, rules, text)
+
+    def _set_up(self, kind, arguments, rules, text):
+        """Set what the clause keeps.
+
+        Between and AllOf use this in their constructors: those of their bases would make them clauses of another kind.
+        """
         self._kind = kind
         self._arguments = arguments
         self._rules = rules
@@ -161,7 +168,7 @@ class Between(AtLeast, AtMost):
         _require(is_event(first) and is_event(second) and _is_delay(least) and _is_delay(most))
         rules = (_least_rule(first, second, least), _most_rule(first, second, most))
         text = f"{first} to {second} from {least} to {most}"
-        Clause.__init__(self, "Between", (first, second, least, most), rules, text)
+        self._set_up("Between", (first, second, least, most), rules, text)
 
 
 class SomeOf(Clause):
@@ -186,7 +193,7 @@ class AllOf(SomeOf):
         _require(is_event(event) and len(options) <= MAX_OPTIONS and all([_is_option(entry) for entry in options]))
         rules = tuple([(event, (option,)) for option in options])
         text = f"{event} by all of {options_written(options)}"
-        Clause.__init__(self, "AllOf", (event, options), rules, text)
+        self._set_up("AllOf", (event, options), rules, text)
 
 
 class Together(Clause):
